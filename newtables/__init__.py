@@ -1,0 +1,1 @@
+"""Newtables: newcomers who sit down beside somebody, or open a table."""

@@ -1,0 +1,75 @@
+"""What the other files share: checks of plain arguments, and exact fractions."""
+
+from math import gcd
+
+from newtables.errors import InvalidGuest, InvalidGuests, InvalidNumber, InvalidWeight
+
+MOST_GUESTS = 20
+MOST_WEIGHT = 10 ** 12
+
+
+def is_whole(thing):
+    """Whether an object is an integer and no boolean."""
+    return type(thing) == int
+
+
+def is_between(thing, least, most):
+    """Whether an object is an integer from least to most."""
+    return is_whole(thing) and least <= thing <= most
+
+
+def is_order(thing):
+    """Whether an object is a list of 1 to 20 items with 0, 1, .. once each."""
+    if type(thing) != list or not 1 <= len(thing) <= MOST_GUESTS:
+        return False
+    # Only integers may be sorted: other items may have no order.
+    if not all([is_whole(item) for item in thing]):
+        return False
+    return sorted(thing) == list(range(len(thing)))
+
+
+def check_guests(guests):
+    if not is_between(guests, 1, MOST_GUESTS):
+        raise InvalidGuests("guests must be an integer from 1 to 20")
+
+
+def check_weight(weight):
+    if not is_between(weight, 1, MOST_WEIGHT):
+        raise InvalidWeight("weight must be an integer from 1 to 10 ** 12")
+
+
+def check_guest(guest, guests):
+    if not is_between(guest, 0, guests - 1):
+        raise InvalidGuest(f"a guest must be an integer from 0 to {guests - 1}")
+
+
+def check_number(number, least, most):
+    if not is_between(number, least, most):
+        raise InvalidNumber(f"the number must be an integer from {least} to {most}")
+
+
+def check_any_number(number):
+    if not is_whole(number):
+        raise InvalidNumber("the number must be an integer")
+
+
+def raised(base, times):
+    """The product of so many times base."""
+    total = 1
+    for _ in range(times):
+        total = total * base
+    return total
+
+
+def rising(weight, guests):
+    """W(guests), for any weight and any number of guests from 0 on."""
+    total = 1
+    for guest in range(guests):
+        total = total * (weight + guest)
+    return total
+
+
+def fraction(top, bottom):
+    """The tuple of top and bottom without a common divisor."""
+    common = gcd(top, bottom)
+    return (top // common, bottom // common)

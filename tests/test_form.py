@@ -1,0 +1,121 @@
+"""The rules of form that a test can see: sizes, characters, imports and names."""
+
+import ast
+import unittest
+from pathlib import Path
+
+PACKAGE = Path(__file__).resolve().parent.parent / "newtables"
+FILES = sorted(PACKAGE.glob("*.py"))
+BUILTINS = set(
+    "len range enumerate zip min max sum abs sorted reversed int str bool list tuple dict set isinstance ord repr "
+    "any all divmod pow iter next map type super property staticmethod classmethod getattr hasattr setattr "
+    "Exception ValueError TypeError KeyError IndexError LookupError NotImplemented NotImplementedError".split()
+)
+LIBRARY = {
+    "__future__": {"annotations"},
+    "collections": {"defaultdict", "deque"},
+    "heapq": {"heappush", "heappop", "heapify", "heapreplace", "heappushpop"},
+    "itertools": {"product", "combinations", "permutations", "chain", "accumulate", "pairwise", "islice", "zip_longest"},
+    "math": {"gcd", "lcm", "isqrt", "comb", "perm", "factorial"},
+}
+
+
+def tree_of(path):
+    return ast.parse(path.read_text())
+
+
+def local_names(function):
+    """The parameters and all names that a function assigns."""
+    names = {node.arg for node in ast.walk(function) if isinstance(node, ast.arg)}
+    return names | {node.id for node in ast.walk(function)
+                    if isinstance(node, ast.Name) and isinstance(node.ctx, ast.Store)}
+
+
+class FormTest(unittest.TestCase):
+
+    def test_there_are_files(self):
+        self.assertGreaterEqual(len(FILES), 5)
+
+    def test_files_and_lines(self):
+        for path in FILES:
+            text = path.read_text()
+            with self.subTest(path=path.name):
+                self.assertLessEqual(len(text.splitlines()), 399)
+                self.assertLessEqual(max(map(len, text.splitlines())), 120)
+                self.assertTrue(all(sign == "\n" or " " <= sign <= "~" for sign in text))
+
+    def test_functions_are_short(self):
+        for path in FILES:
+            for node in ast.walk(tree_of(path)):
+                if isinstance(node, ast.FunctionDef):
+                    with self.subTest(path=path.name, name=node.name):
+                        self.assertLessEqual(node.end_lineno - node.lineno + 1, 40)
+
+    def test_imports(self):
+        for path in FILES:
+            for node in ast.walk(tree_of(path)):
+                self.assertNotIsInstance(node, ast.Import)
+                if isinstance(node, ast.ImportFrom):
+                    names = {alias.name for alias in node.names}
+                    with self.subTest(path=path.name, names=names):
+                        self.assertEqual(node.level, 0)
+                        if node.module in LIBRARY:
+                            self.assertLessEqual(names, LIBRARY[node.module])
+                        else:
+                            self.check_own_import(node.module, names)
+
+    def check_own_import(self, module, names):
+        package, file = module.split(".")
+        self.assertEqual(package, "newtables")
+        bound = set()
+        for node in tree_of(PACKAGE / (file + ".py")).body:
+            if isinstance(node, (ast.FunctionDef, ast.ClassDef)):
+                bound.add(node.name)
+            if isinstance(node, ast.Assign):
+                bound.add(node.targets[0].id)
+        self.assertLessEqual(names, bound)
+
+    def test_no_import_goes_round(self):
+        imports = {path.stem: [node.module.split(".")[1] for node in tree_of(path).body
+                               if isinstance(node, ast.ImportFrom) and node.module.startswith("newtables.")]
+                   for path in FILES}
+        self.assertEqual(imports["__init__"], [])
+        while imports:
+            free = [file for file in imports if not set(imports[file]) & set(imports)]
+            self.assertNotEqual(free, [])
+            for file in free:
+                del imports[file]
+
+    def test_builtins_and_nodes(self):
+        banned = (ast.AsyncFunctionDef, ast.Div)
+        for path in FILES:
+            tree = tree_of(path)
+            bound = {node.name for node in tree.body if isinstance(node, (ast.FunctionDef, ast.ClassDef))}
+            bound |= {alias.name for node in tree.body if isinstance(node, ast.ImportFrom) for alias in node.names}
+            bound |= local_names(tree)
+            for node in ast.walk(tree):
+                self.assertNotIsInstance(node, banned)
+                if isinstance(node, ast.Constant):
+                    self.assertNotIsInstance(node.value, (float, complex))
+                if isinstance(node, ast.Name) and isinstance(node.ctx, ast.Load):
+                    with self.subTest(path=path.name, name=node.id):
+                        self.assertIn(node.id, bound | BUILTINS)
+
+    def test_no_local_name_is_an_import_or_a_builtin(self):
+        for path in FILES:
+            tree = tree_of(path)
+            taken = {alias.name for node in tree.body if isinstance(node, ast.ImportFrom) for alias in node.names}
+            for node in ast.walk(tree):
+                if isinstance(node, ast.FunctionDef):
+                    with self.subTest(path=path.name, name=node.name):
+                        self.assertEqual(local_names(node) & (taken | BUILTINS), set())
+
+    def test_no_string_has_the_sign_of_formats(self):
+        for path in FILES:
+            for node in ast.walk(tree_of(path)):
+                if isinstance(node, ast.Constant) and isinstance(node.value, str):
+                    self.assertNotIn("%", node.value)
+
+
+if __name__ == "__main__":
+    unittest.main()
