@@ -1,8 +1,8 @@
-"""What the other files share: checks of plain arguments, and exact fractions."""
+"""What the other files share: checks of plain arguments, products and exact fractions."""
 
 from math import gcd
 
-from newtables.errors import InvalidGuest, InvalidGuests, InvalidNumber, InvalidWeight
+from newtables.errors import InvalidGuest, InvalidGuests, InvalidIndex, InvalidNumber, InvalidWeight
 
 MOST_GUESTS = 20
 MOST_WEIGHT = 10 ** 12
@@ -26,6 +26,15 @@ def is_order(thing):
     if not all([is_whole(item) for item in thing]):
         return False
     return sorted(thing) == list(range(len(thing)))
+
+
+def is_ascending(thing, least, most):
+    """Whether an object is an ascending list of integers from least to most, not empty."""
+    if type(thing) != list or len(thing) == 0:
+        return False
+    if not all([is_between(item, least, most) for item in thing]):
+        return False
+    return thing == sorted(set(thing))
 
 
 def check_guests(guests):
@@ -53,6 +62,11 @@ def check_any_number(number):
         raise InvalidNumber("the number must be an integer")
 
 
+def check_index(index, many):
+    if not is_between(index, 0, many - 1):
+        raise InvalidIndex(f"an index must be an integer from 0 to below {many}")
+
+
 def raised(base, times):
     """The product of so many times base."""
     total = 1
@@ -67,6 +81,22 @@ def rising(weight, guests):
     for guest in range(guests):
         total = total * (weight + guest)
     return total
+
+
+def sums_by_tables(factors):
+    """The product of all (steep * x + even), as the list of what stands with 1, x, x * x and so on."""
+    sums = [1]
+    for steep, even in factors:
+        less = [part * even for part in sums] + [0]
+        more = [0] + [part * steep for part in sums]
+        sums = [one + other for one, other in zip(less, more)]
+    return sums
+
+
+def sum_at(factors, number):
+    """The item with this number in the product of such factors, 0 beyond the last one."""
+    sums = sums_by_tables(factors)
+    return sums[number] if number < len(sums) else 0
 
 
 def fraction(top, bottom):

@@ -1,6 +1,6 @@
 """What seatings weigh, and how many tables they have."""
 
-from newtables.basics import check_guests, check_number, check_weight, fraction, raised, rising
+from newtables.basics import check_guests, check_number, check_weight, fraction, raised, rising, sums_by_tables
 from newtables.seatings import tables_of
 
 
@@ -67,13 +67,8 @@ def best_weights(guests, number):
 
 def weights_by_tables(guests, weight):
     """The list of guests + 1 sums of weights, item t: of the seatings with t tables."""
-    sums = [1]
-    for guest in range(guests):
-        # The newcomer opens one more table, or sits down beside one of the others.
-        seated = [part * guest for part in sums] + [0]
-        opened = [0] + [part * weight for part in sums]
-        sums = [one + other for one, other in zip(seated, opened)]
-    return sums
+    # The newcomer opens one more table, or sits down beside one of the others.
+    return sums_by_tables([(weight, guest) for guest in range(guests)])
 
 
 def gain_behind(guests, number, weight):

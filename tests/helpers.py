@@ -1,7 +1,7 @@
 """What the tests share: objects of all kinds, and all seatings of a few guests."""
 
 from fractions import Fraction
-from itertools import permutations
+from itertools import combinations, permutations, product
 from math import prod
 
 from newtables.errors import HallError
@@ -14,12 +14,26 @@ NO_LISTS_OF_GUESTS = [
     [1, 0, 3], [0, 1, 1], list(range(21)), list(range(20)) + [0], [0] * 2000, [[]] * 2000,
 ]
 
+NO_COMINGS = [
+    None, True, 0, "", "0", (), (0,), (0, 0), {}, {"0": 0}, [], [1], [-1], [True], [False], [0, True],
+    [0, False], [0, 2], [0, -1], [0, 1, 3], [0, 0, -1], [None], ["0"], [[0]], [(0,)], [0, None],
+    [0, "0"], [0, [0]], [0, {}], [0] * 21, list(range(21)), [0] * 2000, [0, 10 ** 30],
+]
+
 NO_INTEGERS = [True, False, None, "1", "", [1], (1,), {}]
+WRONG_GUESTS = [0, 21, -1, 10 ** 30, -(10 ** 30)] + NO_INTEGERS
+MOST = 10 ** 12
+WRONG_WEIGHTS = [0, -1, MOST + 1, 10 ** 30, -(10 ** 30)] + NO_INTEGERS
 
 
 def all_seatings(guests):
     """All seatings, ascending."""
     return [list(order) for order in permutations(range(guests))]
+
+
+def all_comings(guests):
+    """All coming lists, ascending."""
+    return [list(items) for items in product(*(range(guest + 1) for guest in range(guests)))]
 
 
 def plain_tables(seating):
@@ -37,6 +51,29 @@ def plain_tables(seating):
     return tables
 
 
+def plain_openers(seating):
+    return [table[0] for table in plain_tables(seating)]
+
+
+def plain_sizes(seating):
+    """The sizes of the tables in the sequence of opening."""
+    return [len(table) for table in plain_tables(seating)]
+
+
+def table_with(seating, guest):
+    """The table at which a guest sits."""
+    return next(table for table in plain_tables(seating) if guest in table)
+
+
+def subsets(items):
+    """All ascending lists of some of the items, not empty."""
+    return [list(chosen) for many in range(1, len(items) + 1) for chosen in combinations(items, many)]
+
+
+def weigh(seatings, weight):
+    return sum(plain_weight(seating, weight) for seating in seatings)
+
+
 def plain_weight(seating, weight):
     return weight ** len(plain_tables(seating))
 
@@ -44,8 +81,12 @@ def plain_weight(seating, weight):
 def plain_share(guests, weight, has_it):
     """The share, as a tuple, of the seatings for which has_it holds."""
     seatings = all_seatings(guests)
-    top = sum(plain_weight(seating, weight) for seating in seatings if has_it(seating))
-    return pair(Fraction(top, sum(plain_weight(seating, weight) for seating in seatings)))
+    return share_of([seating for seating in seatings if has_it(seating)], seatings, weight)
+
+
+def share_of(some, seatings, weight):
+    """The share, as a tuple, of some of the seatings among all of these."""
+    return pair(Fraction(weigh(some, weight), weigh(seatings, weight)))
 
 
 def rising_product(guests, weight):

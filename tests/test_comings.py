@@ -1,23 +1,12 @@
 """[7], and what [3] says of coming lists."""
 
 import unittest
-from itertools import product
 
 from newtables.comings import coming_of, hall_of, is_coming, openers_of, seating_by
 from newtables.errors import InvalidComing, InvalidNumber, InvalidSeating
-from tests.helpers import NO_INTEGERS, NO_LISTS_OF_GUESTS, all_seatings, plain_tables
+from tests.helpers import NO_COMINGS, NO_INTEGERS, NO_LISTS_OF_GUESTS, all_comings, all_seatings, plain_tables
 
 ALONE = list(range(20))
-
-NO_COMINGS = [
-    None, True, 0, "", "0", (), (0,), (0, 0), {}, {"0": 0}, [], [1], [-1], [True], [False], [0, True],
-    [0, False], [0, 2], [0, -1], [0, 1, 3], [0, 0, -1], [None], ["0"], [[0]], [(0,)], [0, None],
-    [0, "0"], [0, [0]], [0, {}], [0] * 21, list(range(21)), [0] * 2000, [0, 10 ** 30],
-]
-
-
-def all_comings(guests):
-    return [list(items) for items in product(*(range(guest + 1) for guest in range(guests)))]
 
 
 def sit_down(coming):

@@ -14,6 +14,7 @@ PACKAGE = Path(__file__).resolve().parent.parent / "newtables"
 
 # For each file its functions with their arguments and one valid call.
 SEATING = [1, 3, 2, 0]
+FACTS = [("left", 0, 1), ("sit", 2)]
 INTERFACE = {
     "seatings": {
         "is_seating": {"thing": SEATING},
@@ -43,8 +44,75 @@ INTERFACE = {
         "likeliest_tables": {"guests": 2, "weight": 1},
         "best_weights": {"guests": 4, "number": 3},
     },
+    "orders": {
+        "count_seatings": {"guests": 4},
+        "by_tables": {"guests": 4},
+        "nth_coming": {"guests": 4, "index": 5},
+        "coming_index": {"coming": [0, 0, 2, 1]},
+        "nth_coming_with": {"guests": 4, "number": 2, "index": 7},
+        "coming_index_with": {"coming": [0, 0, 2, 1]},
+        "nth_seating": {"guests": 4, "index": 9},
+        "seating_index": {"seating": SEATING},
+        "next_seating": {"seating": SEATING},
+    },
+    "sizes": {
+        "count_sizes": {"sizes": [2, 1]},
+        "sizes_share": {"sizes": [2, 1], "weight": 2},
+        "nth_with_sizes": {"sizes": [2, 1], "index": 2},
+        "index_with_sizes": {"seating": SEATING},
+        "count_by_opening": {"sizes": [2, 1]},
+        "opening_share": {"sizes": [2, 1], "weight": 2},
+        "size_share": {"guests": 4, "weight": 2, "size": 3},
+        "mean_number": {"guests": 4, "weight": 2, "size": 3},
+        "number_shares": {"guests": 4, "weight": 2, "size": 3},
+        "count_allowed": {"guests": 4, "allowed": [1, 2]},
+        "allowed_share": {"guests": 4, "weight": 2, "allowed": [1, 2]},
+        "nth_allowed": {"guests": 4, "allowed": [1, 2], "index": 5},
+        "first_allowed": {"guests": 4, "weight": 2, "allowed": [1, 2]},
+        "given_open": {"sizes": [2, 1], "guest": 2},
+        "given_together": {"sizes": [2, 1]},
+    },
+    "events": {
+        "opener_share": {"guests": 4, "weight": 2, "guest": 3},
+        "count_openers": {"guests": 4, "group": [0, 2]},
+        "openers_share": {"guests": 4, "weight": 2, "group": [0, 2]},
+        "last_opener_share": {"guests": 4, "weight": 2, "guest": 3},
+        "rank_share": {"guests": 4, "weight": 2, "rank": 1, "guest": 3},
+        "together_share": {"guests": 4, "weight": 2, "group": [1, 3]},
+        "just_share": {"guests": 4, "weight": 2, "group": [1, 3]},
+        "tables_shares": {"guests": 4, "weight": 2, "group": [1, 3]},
+        "split_share": {"guests": 4, "weight": 2, "groups": [[1, 3], [0]]},
+        "given_tables": {"guests": 4, "number": 2, "group": [1, 3]},
+        "home_share": {"guests": 4, "weight": 2, "steps": -3},
+        "other_share": {"guests": 4, "weight": 2, "steps": -3},
+    },
+    "rows": {
+        "hold_paper": {"guests": 4, "facts": FACTS + [("sit", 0)]},
+        "can_hold": {"guests": 4, "facts": FACTS},
+        "weight_with": {"guests": 4, "weight": 2, "facts": FACTS},
+        "share_with": {"guests": 4, "weight": 2, "facts": FACTS},
+        "count_with": {"guests": 4, "facts": FACTS},
+        "tables_with": {"guests": 4, "facts": FACTS},
+        "nth_with": {"guests": 4, "facts": FACTS, "index": 1},
+        "index_with": {"seating": [1, 2, 3, 0], "facts": FACTS},
+        "next_share": {"guests": 4, "weight": 2, "facts": FACTS, "fact": ("open", 3)},
+        "sure_neighbours": {"guests": 4, "facts": FACTS},
+        "best_question": {"guests": 4, "weight": 2, "facts": FACTS},
+    },
 }
-FRACTIONS = ["seating_share", "tables_share", "mean_tables"]
+
+# What answers with a fraction, and what with a list of fractions.
+FRACTIONS = [
+    ("weights", "seating_share"), ("weights", "tables_share"), ("weights", "mean_tables"),
+    ("sizes", "sizes_share"), ("sizes", "opening_share"), ("sizes", "size_share"), ("sizes", "mean_number"),
+    ("sizes", "allowed_share"), ("sizes", "given_open"), ("sizes", "given_together"),
+    ("events", "opener_share"), ("events", "openers_share"), ("events", "last_opener_share"),
+    ("events", "rank_share"), ("events", "together_share"), ("events", "just_share"), ("events", "split_share"),
+    ("events", "given_tables"), ("events", "home_share"), ("events", "other_share"),
+    ("rows", "share_with"), ("rows", "next_share"),
+]
+LISTS_OF_FRACTIONS = [("sizes", "number_shares"), ("sizes", "first_allowed"), ("events", "tables_shares")]
+TRUTHS = [("seatings", "is_seating"), ("seatings", "are_together"), ("comings", "is_coming"), ("rows", "can_hold")]
 
 # Valid calls whose answers could be the very list that was passed.
 CALLS_THAT_CHANGE_NOTHING = [
@@ -53,6 +121,10 @@ CALLS_THAT_CHANGE_NOTHING = [
     ("comings", "coming_of", [0, 1, 2]), ("comings", "seating_by", [0, 1, 2]),
     ("comings", "openers_of", [0, 1, 2]), ("comings", "hall_of", [0, 1, 2], 3),
     ("seatings", "tables_of", [0, 1]), ("seatings", "seating_of", [(0,), (1,)]),
+    ("orders", "nth_coming", 3, 5), ("orders", "nth_seating", 3, 0), ("orders", "next_seating", [1, 0]),
+    ("sizes", "nth_with_sizes", [1, 1], 0), ("sizes", "nth_with_sizes", [2], 0), ("sizes", "nth_allowed", 2, [1], 0),
+    ("rows", "nth_with", 2, [], 0), ("rows", "tables_with", 2, []), ("rows", "tables_with", 2, [("sit", 0)]),
+    ("rows", "sure_neighbours", 3, []),
 ]
 
 # Of several wrong arguments the first one decides, whatever follows.
@@ -72,6 +144,60 @@ WRONG_CALLS = [
     ("weights", "tables_share", "InvalidNumber", 1, 1, -1),
     ("weights", "mean_tables", "InvalidGuests", 21, 0), ("weights", "likeliest_tables", "InvalidGuests", 21, 0),
     ("weights", "best_weights", "InvalidGuests", 0, 0), ("weights", "best_weights", "InvalidNumber", 1, 0),
+    ("orders", "nth_coming", "InvalidGuests", 0, -1), ("orders", "nth_coming", "InvalidIndex", 1, -1),
+    ("orders", "nth_coming_with", "InvalidGuests", 0, 0, -1),
+    ("orders", "nth_coming_with", "InvalidNumber", 1, 0, -1),
+    ("orders", "nth_coming_with", "InvalidIndex", 1, 1, -1),
+    ("orders", "nth_seating", "InvalidGuests", 21, -1), ("orders", "nth_seating", "InvalidIndex", 20, -1),
+    ("sizes", "sizes_share", "InvalidSizes", [], 0), ("sizes", "sizes_share", "InvalidWeight", [1], 0),
+    ("sizes", "nth_with_sizes", "InvalidSizes", [21], -1), ("sizes", "nth_with_sizes", "InvalidIndex", [20], -1),
+    ("sizes", "opening_share", "InvalidSizes", (1,), 0), ("sizes", "opening_share", "InvalidWeight", [1], 0),
+    ("sizes", "size_share", "InvalidGuests", 0, 0, 0), ("sizes", "size_share", "InvalidWeight", 1, 0, 0),
+    ("sizes", "mean_number", "InvalidGuests", 0, 0, 0), ("sizes", "mean_number", "InvalidWeight", 1, 0, 0),
+    ("sizes", "number_shares", "InvalidGuests", 0, 0, 0), ("sizes", "number_shares", "InvalidWeight", 1, 0, 0),
+    ("sizes", "number_shares", "InvalidNumber", 1, 1, 0),
+    ("sizes", "count_allowed", "InvalidGuests", 0, []), ("sizes", "count_allowed", "InvalidSizes", 1, []),
+    ("sizes", "allowed_share", "InvalidGuests", 0, 0, []), ("sizes", "allowed_share", "InvalidWeight", 1, 0, []),
+    ("sizes", "nth_allowed", "InvalidGuests", 0, [], -1), ("sizes", "nth_allowed", "InvalidSizes", 1, [], -1),
+    ("sizes", "nth_allowed", "InvalidIndex", 1, [2], 0),
+    ("sizes", "first_allowed", "InvalidGuests", 0, 0, []), ("sizes", "first_allowed", "InvalidWeight", 1, 0, []),
+    ("sizes", "first_allowed", "InvalidSizes", 1, 1, []), ("sizes", "first_allowed", "NoSeating", 1, 1, [2]),
+    ("sizes", "given_open", "InvalidSizes", [0], 1), ("sizes", "given_open", "InvalidGuest", [1], 1),
+    ("events", "opener_share", "InvalidGuests", 0, 0, 0), ("events", "opener_share", "InvalidWeight", 1, 0, 1),
+    ("events", "opener_share", "InvalidGuest", 1, 1, 1),
+    ("events", "count_openers", "InvalidGuests", 0, []), ("events", "count_openers", "InvalidGroup", 2, [1]),
+    ("events", "openers_share", "InvalidGuests", 0, 0, []), ("events", "openers_share", "InvalidWeight", 1, 0, []),
+    ("events", "openers_share", "InvalidGroup", 2, 1, [1]),
+    ("events", "last_opener_share", "InvalidGuests", 0, 0, 0),
+    ("events", "last_opener_share", "InvalidWeight", 1, 0, 1),
+    ("events", "rank_share", "InvalidGuests", 0, 0, 0, 0), ("events", "rank_share", "InvalidWeight", 1, 0, 1, 1),
+    ("events", "rank_share", "InvalidNumber", 1, 1, 1, 1), ("events", "rank_share", "InvalidGuest", 1, 1, 0, 1),
+    ("events", "together_share", "InvalidGuests", 0, 0, []), ("events", "together_share", "InvalidWeight", 1, 0, []),
+    ("events", "just_share", "InvalidGuests", 0, 0, []), ("events", "just_share", "InvalidWeight", 1, 0, []),
+    ("events", "tables_shares", "InvalidGuests", 0, 0, []), ("events", "tables_shares", "InvalidWeight", 1, 0, []),
+    ("events", "split_share", "InvalidGuests", 0, 0, []), ("events", "split_share", "InvalidWeight", 1, 0, []),
+    ("events", "given_tables", "InvalidGuests", 0, 0, []), ("events", "given_tables", "InvalidNumber", 1, 2, []),
+    ("events", "given_tables", "InvalidGroup", 1, 1, []),
+    ("events", "home_share", "InvalidGuests", 0, 0, True), ("events", "home_share", "InvalidWeight", 1, 0, True),
+    ("events", "other_share", "InvalidGuests", 0, 0, True), ("events", "other_share", "InvalidWeight", 1, 0, True),
+    ("rows", "hold_paper", "InvalidGuests", 0, None), ("rows", "can_hold", "InvalidGuests", 0, None),
+    ("rows", "weight_with", "InvalidGuests", 0, 0, None), ("rows", "weight_with", "InvalidWeight", 1, 0, None),
+    ("rows", "share_with", "InvalidGuests", 0, 0, None), ("rows", "share_with", "InvalidWeight", 1, 0, None),
+    ("rows", "count_with", "InvalidGuests", 0, None), ("rows", "tables_with", "InvalidGuests", 0, None),
+    ("rows", "nth_with", "InvalidGuests", 0, None, -1), ("rows", "nth_with", "InvalidFacts", 1, None, -1),
+    ("rows", "nth_with", "InvalidIndex", 1, [("sit", 0)], 0),
+    ("rows", "index_with", "InvalidSeating", [1], None), ("rows", "index_with", "InvalidFacts", [0], None),
+    ("rows", "index_with", "NoSeating", [0], [("sit", 0)]),
+    ("rows", "next_share", "InvalidGuests", 0, 0, None, None),
+    ("rows", "next_share", "InvalidWeight", 1, 0, None, None),
+    ("rows", "next_share", "InvalidFacts", 1, 1, None, None),
+    ("rows", "next_share", "InvalidFacts", 1, 1, [("sit", 0)], None),
+    ("rows", "next_share", "NoSeating", 1, 1, [("sit", 0)], ("open", 0)),
+    ("rows", "sure_neighbours", "InvalidGuests", 0, None),
+    ("rows", "sure_neighbours", "NoSeating", 1, [("sit", 0)]),
+    ("rows", "best_question", "InvalidGuests", 0, 0, None), ("rows", "best_question", "InvalidWeight", 1, 0, None),
+    ("rows", "best_question", "InvalidFacts", 1, 1, None),
+    ("rows", "best_question", "NoSeating", 1, 1, [("sit", 0)]),
 ]
 
 
@@ -89,6 +215,12 @@ def lists_in(value):
         return []
     own = [id(value)] if isinstance(value, list) else []
     return own + [one for item in value for one in lists_in(item)]
+
+
+def kinds_in(value):
+    """The kinds of a value and of all that is in it."""
+    inner = value if isinstance(value, (list, tuple)) else []
+    return [type(value)] + [kind for item in inner for kind in kinds_in(item)]
 
 
 class InterfaceTest(unittest.TestCase):
@@ -150,17 +282,28 @@ class ArgumentsAndResultsTest(unittest.TestCase):
                 self.assertEqual(function_of(file, name)(**arguments), kept)
 
     def test_fractions_are_tuples_without_a_common_divisor(self):
-        for name in FRACTIONS:
-            answer = function_of("weights", name)(**INTERFACE["weights"][name])
+        answers = [function_of(file, name)(**INTERFACE[file][name]) for file, name in FRACTIONS]
+        for file, name in LISTS_OF_FRACTIONS:
+            found = function_of(file, name)(**INTERFACE[file][name])
+            self.assertIs(type(found), list)
+            answers += found
+        for answer in answers:
             self.assertIs(type(answer), tuple)
             self.assertEqual([type(part) for part in answer], [int, int])
             self.assertEqual(gcd(*answer), 1)
+            self.assertGreaterEqual(answer[0], 0)
             self.assertGreaterEqual(answer[1], 1)
 
     def test_answers_that_are_truths_are_booleans(self):
-        for name in ("is_seating", "are_together"):
-            self.assertIs(function_of("seatings", name)(**INTERFACE["seatings"][name]), True)
-        self.assertIs(function_of("comings", "is_coming")([0, 1, 2]), True)
+        for file, name in TRUTHS:
+            self.assertIs(function_of(file, name)(**INTERFACE[file][name]), True)
+
+    def test_all_other_answers_are_no_booleans(self):
+        for file, name, arguments in all_calls():
+            if (file, name) not in TRUTHS:
+                with self.subTest(name=name):
+                    kinds = kinds_in(function_of(file, name)(**arguments))
+                    self.assertLessEqual(set(kinds), {int, str, list, tuple})
 
     def test_answers_may_be_passed_back(self):
         shares = function_of("weights", "total_weight")(20, 10 ** 12)

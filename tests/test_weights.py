@@ -8,13 +8,11 @@ from newtables.weights import (
     best_weights, likeliest_tables, mean_tables, seating_share, tables_share, total_weight,
 )
 from tests.helpers import (
-    NO_INTEGERS, NO_LISTS_OF_GUESTS, all_seatings, pair, plain_share, plain_tables, plain_weight, rising_product,
+    MOST, NO_INTEGERS, NO_LISTS_OF_GUESTS, WRONG_GUESTS, WRONG_WEIGHTS,
+    all_seatings, pair, plain_share, plain_tables, plain_weight, rising_product, weigh,
 )
 
-MOST = 10 ** 12
 EXAMPLE = [1, 3, 2, 0]
-WRONG_GUESTS = [0, 21, -1, 10 ** 30, -(10 ** 30)] + NO_INTEGERS
-WRONG_WEIGHTS = [0, -1, MOST + 1, 10 ** 30, -(10 ** 30)] + NO_INTEGERS
 
 
 class TotalTest(unittest.TestCase):
@@ -32,8 +30,7 @@ class TotalTest(unittest.TestCase):
     def test_it_is_the_sum_over_all_seatings(self):
         for guests in range(1, 7):
             for weight in (1, 2, 3, 10):
-                whole = sum(plain_weight(seating, weight) for seating in all_seatings(guests))
-                self.assertEqual(total_weight(guests, weight), whole)
+                self.assertEqual(total_weight(guests, weight), weigh(all_seatings(guests), weight))
 
 
 class SeatingShareTest(unittest.TestCase):
