@@ -4,6 +4,7 @@ import unittest
 from fractions import Fraction
 
 from newtables.comings import openers_of, seating_by
+from newtables.company import company_weight, meet_share
 from newtables.events import count_openers, opener_share, openers_share, together_share
 from newtables.rows import hold_paper, share_with, sure_neighbours
 from newtables.seatings import are_together, table_from, tables_of
@@ -61,6 +62,12 @@ class ExampleTest(unittest.TestCase):
     def test_the_examples_of_facts(self):
         self.assertEqual(sure_neighbours(3, [("left", 0, 1), ("left", 1, 2)]), [(0, 1), (1, 2), (2, 0)])
         self.assertEqual(hold_paper(2, [("open", 1), ("left", 0, 1)]), ("left", 1))
+
+    def test_the_examples_of_company(self):
+        self.assertEqual(company_weight(4, 2, [], [(0, 1), (2, 3)], []), 16)
+        self.assertEqual(company_weight(4, 2, [], [(0, 1)], [(0, 2)]), 20)
+        self.assertEqual(meet_share(4, 2, [], [], [], 1, 3), (1, 3))
+        self.assertEqual(meet_share(4, 2, [], [(0, 2)], [], 2, 3), (1, 2))
 
 
 if __name__ == "__main__":

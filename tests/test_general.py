@@ -15,6 +15,9 @@ PACKAGE = Path(__file__).resolve().parent.parent / "newtables"
 # For each file its functions with their arguments and one valid call.
 SEATING = [1, 3, 2, 0]
 FACTS = [("left", 0, 1), ("sit", 2)]
+ROWS = [("left", 0, 1)]
+TOGETHER = [(2, 1)]
+APART = [(0, 3)]
 INTERFACE = {
     "seatings": {
         "is_seating": {"thing": SEATING},
@@ -99,6 +102,43 @@ INTERFACE = {
         "sure_neighbours": {"guests": 4, "facts": FACTS},
         "best_question": {"guests": 4, "weight": 2, "facts": FACTS},
     },
+    "company": {
+        "company_paper": {"guests": 4, "rows": ROWS, "together": TOGETHER, "apart": [(1, 2)]},
+        "can_meet": {"guests": 4, "rows": ROWS, "together": TOGETHER, "apart": APART},
+        "company_weight": {"guests": 4, "weight": 2, "rows": ROWS, "together": TOGETHER, "apart": APART},
+        "company_share": {"guests": 4, "weight": 2, "rows": ROWS, "together": TOGETHER, "apart": APART},
+        "meet_share": {
+            "guests": 4, "weight": 2, "rows": ROWS, "together": [], "apart": APART, "guest": 2, "mate": 0,
+        },
+        "groups_of": {"guests": 4, "rows": ROWS, "together": TOGETHER},
+    },
+    "growth": {
+        "grow_share": {"sizes": [2, 1], "weight": 2, "later": [3, 1, 2]},
+        "mean_later": {"sizes": [2, 1], "weight": 2, "number": 3},
+        "new_shares": {"sizes": [2, 1], "weight": 2, "number": 3},
+    },
+    "leaving": {
+        "without": {"seating": SEATING, "guest": 1},
+        "coming_without": {"coming": [0, 0, 2, 1], "guest": 1},
+        "sits_alone": {"seating": SEATING, "guest": 2},
+        "is_traceless": {"seating": SEATING, "guest": 2},
+        "traceless": {"seating": SEATING},
+        "traceless_share": {"guests": 4, "weight": 2, "guest": 1},
+        "traceless_counts": {"guests": 4, "weight": 2},
+        "joined": {"seating": SEATING, "mate": 2},
+    },
+    "powers": {
+        "power": {"seating": SEATING, "number": -5},
+        "power_sizes": {"sizes": [2, 1], "number": -4},
+        "period_of": {"seating": SEATING},
+        "period_counts": {"guests": 4},
+        "least_guests": {"period": 12},
+        "count_roots": {"seating": SEATING, "number": 2},
+        "a_root": {"seating": SEATING, "number": 2},
+        "shows_root": {"seating": SEATING, "number": 2, "thing": [3, 0, 2, 1]},
+        "root_paper": {"seating": SEATING, "number": 3},
+        "shows_root_paper": {"seating": SEATING, "number": 3, "thing": 3},
+    },
 }
 
 # What answers with a fraction, and what with a list of fractions.
@@ -109,10 +149,18 @@ FRACTIONS = [
     ("events", "opener_share"), ("events", "openers_share"), ("events", "last_opener_share"),
     ("events", "rank_share"), ("events", "together_share"), ("events", "just_share"), ("events", "split_share"),
     ("events", "given_tables"), ("events", "home_share"), ("events", "other_share"),
-    ("rows", "share_with"), ("rows", "next_share"),
+    ("rows", "share_with"), ("rows", "next_share"), ("company", "company_share"), ("company", "meet_share"),
+    ("growth", "grow_share"), ("leaving", "traceless_share"),
 ]
-LISTS_OF_FRACTIONS = [("sizes", "number_shares"), ("sizes", "first_allowed"), ("events", "tables_shares")]
-TRUTHS = [("seatings", "is_seating"), ("seatings", "are_together"), ("comings", "is_coming"), ("rows", "can_hold")]
+LISTS_OF_FRACTIONS = [
+    ("sizes", "number_shares"), ("sizes", "first_allowed"), ("events", "tables_shares"), ("growth", "mean_later"),
+    ("growth", "new_shares"),
+]
+TRUTHS = [
+    ("seatings", "is_seating"), ("seatings", "are_together"), ("comings", "is_coming"), ("rows", "can_hold"),
+    ("company", "can_meet"), ("leaving", "sits_alone"), ("leaving", "is_traceless"), ("powers", "shows_root"),
+    ("powers", "shows_root_paper"),
+]
 
 # Valid calls whose answers could be the very list that was passed.
 CALLS_THAT_CHANGE_NOTHING = [
@@ -124,7 +172,12 @@ CALLS_THAT_CHANGE_NOTHING = [
     ("orders", "nth_coming", 3, 5), ("orders", "nth_seating", 3, 0), ("orders", "next_seating", [1, 0]),
     ("sizes", "nth_with_sizes", [1, 1], 0), ("sizes", "nth_with_sizes", [2], 0), ("sizes", "nth_allowed", 2, [1], 0),
     ("rows", "nth_with", 2, [], 0), ("rows", "tables_with", 2, []), ("rows", "tables_with", 2, [("sit", 0)]),
-    ("rows", "sure_neighbours", 3, []),
+    ("rows", "sure_neighbours", 3, []), ("company", "groups_of", 3, [], []), ("company", "groups_of", 2, [], [(0, 1)]),
+    ("company", "groups_of", 1, [("left", 0, 0)], []), ("growth", "mean_later", [1, 1], 1, 0),
+    ("growth", "new_shares", [1], 1, 0), ("leaving", "traceless", [0, 1]), ("leaving", "without", [0, 1], 1),
+    ("leaving", "coming_without", [0, 0], 1), ("leaving", "joined", [0], 1), ("leaving", "traceless_counts", 1, 1),
+    ("powers", "power", [1, 0], 1), ("powers", "power", [1, 0], 0), ("powers", "power_sizes", [1, 1], 1),
+    ("powers", "a_root", [1, 2, 0], 1), ("powers", "a_root", [0, 1, 2], 1), ("powers", "period_counts", 2),
 ]
 
 # Of several wrong arguments the first one decides, whatever follows.
@@ -198,6 +251,50 @@ WRONG_CALLS = [
     ("rows", "best_question", "InvalidGuests", 0, 0, None), ("rows", "best_question", "InvalidWeight", 1, 0, None),
     ("rows", "best_question", "InvalidFacts", 1, 1, None),
     ("rows", "best_question", "NoSeating", 1, 1, [("sit", 0)]),
+    ("company", "company_paper", "InvalidGuests", 0, None, None, None),
+    ("company", "company_paper", "InvalidFacts", 1, None, None, None),
+    ("company", "can_meet", "InvalidGuests", 0, None, None, None),
+    ("company", "can_meet", "InvalidFacts", 1, [], None, None),
+    ("company", "company_weight", "InvalidGuests", 0, 0, None, None, None),
+    ("company", "company_weight", "InvalidWeight", 1, 0, None, None, None),
+    ("company", "company_weight", "InvalidFacts", 1, 1, [], [], None),
+    ("company", "company_share", "InvalidGuests", 0, 0, None, None, None),
+    ("company", "company_share", "InvalidWeight", 1, 0, None, None, None),
+    ("company", "company_share", "InvalidFacts", 1, 1, None, None, None),
+    ("company", "meet_share", "InvalidGuests", 0, 0, None, None, None, 9, 9),
+    ("company", "meet_share", "InvalidWeight", 1, 0, None, None, None, 9, 9),
+    ("company", "meet_share", "InvalidFacts", 1, 1, None, None, None, 9, 9),
+    ("company", "meet_share", "InvalidFacts", 1, 1, [], None, None, 9, 9),
+    ("company", "meet_share", "InvalidFacts", 1, 1, [], [], None, 9, 9),
+    ("company", "meet_share", "InvalidGuest", 2, 1, [], [(0, 1)], [(0, 1)], 9, 9),
+    ("company", "meet_share", "InvalidGuest", 2, 1, [], [(0, 1)], [(0, 1)], 1, 1),
+    ("company", "meet_share", "NoSeating", 2, 1, [], [(0, 1)], [(0, 1)], 1, 0),
+    ("company", "groups_of", "InvalidGuests", 0, None, None), ("company", "groups_of", "InvalidFacts", 1, None, None),
+    ("company", "groups_of", "NoSeating", 2, [("left", 0, 0)], [(0, 1)]),
+    ("growth", "grow_share", "InvalidSizes", [], 0, []), ("growth", "grow_share", "InvalidWeight", [1], 0, []),
+    ("growth", "grow_share", "InvalidSizes", [1], 1, []),
+    ("growth", "mean_later", "InvalidSizes", [], 0, -1), ("growth", "mean_later", "InvalidWeight", [1], 0, -1),
+    ("growth", "mean_later", "InvalidNumber", [1], 1, -1),
+    ("growth", "new_shares", "InvalidSizes", [], 0, -1), ("growth", "new_shares", "InvalidWeight", [1], 0, -1),
+    ("growth", "new_shares", "InvalidNumber", [1], 1, -1),
+    ("leaving", "without", "InvalidSeating", [], 0), ("leaving", "without", "InvalidGuest", [0], 1),
+    ("leaving", "without", "NoSeating", [0], 0),
+    ("leaving", "coming_without", "InvalidComing", [], 0), ("leaving", "coming_without", "InvalidGuest", [0], 1),
+    ("leaving", "coming_without", "NoSeating", [0], 0),
+    ("leaving", "sits_alone", "InvalidSeating", [], 0), ("leaving", "is_traceless", "InvalidSeating", [], 0),
+    ("leaving", "traceless_share", "InvalidGuests", 0, 0, 0),
+    ("leaving", "traceless_share", "InvalidWeight", 1, 0, 1),
+    ("leaving", "traceless_share", "InvalidGuest", 1, 1, 1),
+    ("leaving", "traceless_counts", "InvalidGuests", 0, 0), ("leaving", "traceless_counts", "InvalidWeight", 1, 0),
+    ("leaving", "joined", "InvalidSeating", list(range(20)), 21), ("leaving", "joined", "InvalidGuest", [0], 2),
+    ("powers", "power", "InvalidSeating", [], True), ("powers", "power", "InvalidNumber", [0], True),
+    ("powers", "power_sizes", "InvalidSizes", [], True), ("powers", "power_sizes", "InvalidNumber", [1], True),
+    ("powers", "count_roots", "InvalidSeating", [], 0), ("powers", "count_roots", "InvalidNumber", [0], 0),
+    ("powers", "a_root", "InvalidSeating", [], 0), ("powers", "a_root", "InvalidNumber", [1, 0], 0),
+    ("powers", "shows_root", "InvalidSeating", [], 0, []), ("powers", "shows_root", "InvalidNumber", [0], 0, []),
+    ("powers", "root_paper", "InvalidSeating", [], 0), ("powers", "root_paper", "InvalidNumber", [0], 0),
+    ("powers", "shows_root_paper", "InvalidSeating", [], 0, None),
+    ("powers", "shows_root_paper", "InvalidNumber", [0], 0, None),
 ]
 
 
