@@ -13,7 +13,7 @@ def is_whole(thing):
     return type(thing) == int
 
 
-def is_between(thing, least, most):
+def is_within(thing, least, most):
     """Whether an object is an integer from least to most."""
     return is_whole(thing) and least <= thing <= most
 
@@ -32,28 +32,28 @@ def is_ascending(thing, least, most):
     """Whether an object is an ascending list of integers from least to most, not empty."""
     if type(thing) != list or len(thing) == 0:
         return False
-    if not all([is_between(item, least, most) for item in thing]):
+    if not all([is_within(item, least, most) for item in thing]):
         return False
     return thing == sorted(set(thing))
 
 
 def check_guests(guests):
-    if not is_between(guests, 1, MOST_GUESTS):
+    if not is_within(guests, 1, MOST_GUESTS):
         raise InvalidGuests("guests must be an integer from 1 to 20")
 
 
 def check_weight(weight):
-    if not is_between(weight, 1, MOST_WEIGHT):
+    if not is_within(weight, 1, MOST_WEIGHT):
         raise InvalidWeight("weight must be an integer from 1 to 10 ** 12")
 
 
 def check_guest(guest, guests):
-    if not is_between(guest, 0, guests - 1):
+    if not is_within(guest, 0, guests - 1):
         raise InvalidGuest(f"a guest must be an integer from 0 to {guests - 1}")
 
 
 def check_number(number, least, most):
-    if not is_between(number, least, most):
+    if not is_within(number, least, most):
         raise InvalidNumber(f"the number must be an integer from {least} to {most}")
 
 
@@ -63,7 +63,7 @@ def check_any_number(number):
 
 
 def check_index(index, many):
-    if not is_between(index, 0, many - 1):
+    if not is_within(index, 0, many - 1):
         raise InvalidIndex(f"an index must be an integer from 0 to below {many}")
 
 

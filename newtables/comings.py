@@ -1,6 +1,6 @@
 """Coming lists: how the guests of a seating came, one by one."""
 
-from newtables.basics import MOST_GUESTS, check_number, is_between
+from newtables.basics import MOST_GUESTS, check_number, is_within
 from newtables.errors import InvalidComing
 from newtables.seatings import check_seating, tables_of
 
@@ -9,7 +9,7 @@ def is_coming(thing):
     """Whether any object is a coming list."""
     if type(thing) != list or not 1 <= len(thing) <= MOST_GUESTS:
         return False
-    return all([is_between(item, 0, guest) for guest, item in enumerate(thing)])
+    return all([is_within(item, 0, guest) for guest, item in enumerate(thing)])
 
 
 def coming_of(seating):

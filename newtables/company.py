@@ -2,7 +2,7 @@
 
 from math import factorial
 
-from newtables.basics import check_guest, check_guests, check_weight, fraction, is_between, raised, rising
+from newtables.basics import check_guest, check_guests, check_weight, fraction, is_within, raised, rising
 from newtables.errors import InvalidFacts, InvalidGuest, NoSeating
 from newtables.rows import are_facts, hold_paper, rings_of, rows_of, told_lefts
 
@@ -97,7 +97,7 @@ def is_pair(thing, guests):
     """Whether any object is a tuple of two unlike guests."""
     if type(thing) != tuple or len(thing) != 2:
         return False
-    return all([is_between(guest, 0, guests - 1) for guest in thing]) and thing[0] != thing[1]
+    return all([is_within(guest, 0, guests - 1) for guest in thing]) and thing[0] != thing[1]
 
 
 def tears_a_ring(lefts, pair):

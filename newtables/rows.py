@@ -1,6 +1,6 @@
 """Seatings with told facts: left neighbours, who opens a table and who does not."""
 
-from newtables.basics import check_guests, check_index, check_weight, fraction, is_between
+from newtables.basics import check_guests, check_index, check_weight, fraction, is_within
 from newtables.basics import rising, sums_by_tables
 from newtables.errors import InvalidFacts, NoSeating
 from newtables.seatings import check_seating
@@ -150,7 +150,7 @@ def is_fact(thing, guests):
     if type(thing) != tuple or len(thing) == 0 or thing[0] not in WORDS:
         return False
     many = 2 if thing[0] == "left" else 1
-    return len(thing) == many + 1 and all([is_between(guest, 0, guests - 1) for guest in thing[1:]])
+    return len(thing) == many + 1 and all([is_within(guest, 0, guests - 1) for guest in thing[1:]])
 
 
 def pairs_of(guests):

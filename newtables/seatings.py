@@ -12,8 +12,7 @@ def is_seating(thing):
 def tables_of(seating):
     """The ascending list of the tables, each from its least guest on to the left."""
     check_seating(seating)
-    walks = [walk_left(seating, guest) for guest in range(len(seating))]
-    return [walk for walk in walks if walk[0] == min(walk)]
+    return tables_among(seating, list(range(len(seating))))
 
 
 def seating_of(tables):
@@ -115,12 +114,18 @@ def is_table(thing):
     return all([is_whole(guest) for guest in thing]) and thing[0] == min(thing)
 
 
-def walk_left(seating, guest):
-    """The table of a guest of a valid seating, from this guest on."""
+def walk_left(lefts, guest):
+    """The table of a guest, from this guest on, by all left neighbours in a list or a dict."""
     walk = [guest]
-    while seating[walk[-1]] != guest:
-        walk.append(seating[walk[-1]])
+    while lefts[walk[-1]] != guest:
+        walk.append(lefts[walk[-1]])
     return tuple(walk)
+
+
+def tables_among(lefts, guests):
+    """The tables of ascending guests whose left neighbours are told, by a list or a dict."""
+    walks = [walk_left(lefts, guest) for guest in guests]
+    return [walk for walk in walks if walk[0] == min(walk)]
 
 
 def seating_with(tables):

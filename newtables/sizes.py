@@ -3,7 +3,7 @@
 from math import comb, factorial, perm
 
 from newtables.basics import check_guest, check_guests, check_index, check_number, check_weight
-from newtables.basics import MOST_GUESTS, fraction, is_ascending, is_between, is_whole, raised, rising
+from newtables.basics import MOST_GUESTS, fraction, is_ascending, is_within, is_whole, raised, rising
 from newtables.errors import InvalidSizes, NoSeating
 from newtables.seatings import seating_with, tables_of
 
@@ -170,7 +170,7 @@ def are_sizes(thing):
     """Whether any object is a list of integers from 1 on with a sum from 1 to 20."""
     if type(thing) != list or not all([is_whole(item) and item >= 1 for item in thing]):
         return False
-    return is_between(sum(thing), 1, MOST_GUESTS)
+    return is_within(sum(thing), 1, MOST_GUESTS)
 
 
 def check_allowed(allowed):

@@ -5,10 +5,12 @@ from itertools import combinations, permutations, product
 from math import prod
 
 from newtables.errors import HallError
+from newtables.live import Hall
 
 # Objects of the kinds that may be passed anywhere, none of them valid as a list of guests.
 NO_LISTS_OF_GUESTS = [
-    None, True, False, 0, 1, -1, 10 ** 30, "", "0", "0 1", (), (0,), (1, 0), {}, {"0": 0}, HallError("0"),
+    None, True, False, 0, 1, -1, 10 ** 30, "", "0", "0 1", (), (0,), (1, 0), {}, {"0": 0}, HallError("0"), Hall(),
+    [Hall()], [0, Hall()],
     [], [None], ["0"], [True], [False], [[0]], [(0,)], [{}], [{"a": 0}], [0, True], [True, False],
     [1], [-1], [0, 0], [1, 1], [0, 2], [1, 2], [0, -1], [0, 1, None], [0, "1"], [0, [1]], [10 ** 30],
     [1, 0, 3], [0, 1, 1], list(range(21)), list(range(20)) + [0], [0] * 2000, [[]] * 2000,

@@ -15,7 +15,9 @@ LIBRARY = {
     "__future__": {"annotations"},
     "collections": {"defaultdict", "deque"},
     "heapq": {"heappush", "heappop", "heapify", "heapreplace", "heappushpop"},
-    "itertools": {"product", "combinations", "permutations", "chain", "accumulate", "pairwise", "islice", "zip_longest"},
+    "itertools": {
+        "product", "combinations", "permutations", "chain", "accumulate", "pairwise", "islice", "zip_longest",
+    },
     "math": {"gcd", "lcm", "isqrt", "comb", "perm", "factorial"},
 }
 
@@ -25,8 +27,9 @@ def tree_of(path):
 
 
 def local_names(function):
-    """The parameters and all names that a function assigns."""
+    """The parameters and all names that a function assigns, caught errors among them."""
     names = {node.arg for node in ast.walk(function) if isinstance(node, ast.arg)}
+    names |= {node.name for node in ast.walk(function) if isinstance(node, ast.ExceptHandler) and node.name}
     return names | {node.id for node in ast.walk(function)
                     if isinstance(node, ast.Name) and isinstance(node.ctx, ast.Store)}
 

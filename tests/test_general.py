@@ -8,7 +8,8 @@ import unittest
 from math import gcd
 from pathlib import Path
 
-from newtables.errors import HallError
+from newtables.errors import HallError, Refused
+from newtables.live import Hall
 
 PACKAGE = Path(__file__).resolve().parent.parent / "newtables"
 
@@ -18,6 +19,7 @@ FACTS = [("left", 0, 1), ("sit", 2)]
 ROWS = [("left", 0, 1)]
 TOGETHER = [(2, 1)]
 APART = [(0, 3)]
+OTHER = [3, 0, 2, 1]
 INTERFACE = {
     "seatings": {
         "is_seating": {"thing": SEATING},
@@ -139,6 +141,30 @@ INTERFACE = {
         "root_paper": {"seating": SEATING, "number": 3},
         "shows_root_paper": {"seating": SEATING, "number": 3, "thing": 3},
     },
+    "paths": {
+        "exchanged": {"seating": SEATING, "guest": 1, "mate": 2},
+        "distance": {"seating": SEATING, "other": OTHER},
+        "count_paths": {"seating": SEATING, "other": OTHER},
+        "a_path": {"seating": SEATING, "other": OTHER},
+        "shows_path": {"seating": SEATING, "other": OTHER, "thing": [(0, 1), (1, 3)]},
+        "is_between": {"seating": SEATING, "other": OTHER, "third": [1, 0, 2, 3]},
+        "count_between": {"seating": SEATING, "other": OTHER},
+        "between_at": {"seating": SEATING, "other": OTHER},
+        "a_between": {"seating": SEATING, "other": OTHER, "number": 1},
+        "count_chains": {"seating": SEATING, "other": OTHER, "distances": [1, 1]},
+        "count_at": {"guests": 4, "number": 2},
+    },
+    "texts": {
+        "write_seating": {"seating": SEATING},
+        "read_seating": {"text": "1 3 2 0"},
+        "write_coming": {"coming": [0, 0, 2, 1]},
+        "read_coming": {"text": "0 0 2 1"},
+        "write_tables": {"tables": [(0, 1, 3), (2,)]},
+        "read_tables": {"text": "0 1 3 | 2"},
+    },
+    "session": {
+        "session": {"lines": "open\nsit 0\ntables\n"},
+    },
 }
 
 # What answers with a fraction, and what with a list of fractions.
@@ -159,7 +185,7 @@ LISTS_OF_FRACTIONS = [
 TRUTHS = [
     ("seatings", "is_seating"), ("seatings", "are_together"), ("comings", "is_coming"), ("rows", "can_hold"),
     ("company", "can_meet"), ("leaving", "sits_alone"), ("leaving", "is_traceless"), ("powers", "shows_root"),
-    ("powers", "shows_root_paper"),
+    ("powers", "shows_root_paper"), ("paths", "shows_path"), ("paths", "is_between"),
 ]
 
 # Valid calls whose answers could be the very list that was passed.
@@ -178,6 +204,9 @@ CALLS_THAT_CHANGE_NOTHING = [
     ("leaving", "coming_without", [0, 0], 1), ("leaving", "joined", [0], 1), ("leaving", "traceless_counts", 1, 1),
     ("powers", "power", [1, 0], 1), ("powers", "power", [1, 0], 0), ("powers", "power_sizes", [1, 1], 1),
     ("powers", "a_root", [1, 2, 0], 1), ("powers", "a_root", [0, 1, 2], 1), ("powers", "period_counts", 2),
+    ("paths", "exchanged", [1, 0], 0, 0), ("paths", "a_path", [0, 1], [0, 1]), ("paths", "between_at", [0], [0]),
+    ("paths", "a_between", [0, 1], [1, 0], 0), ("paths", "a_between", [0, 1], [1, 0], 1),
+    ("texts", "read_seating", "0"), ("texts", "read_coming", "0"), ("texts", "read_tables", "0 | 1"),
 ]
 
 # Of several wrong arguments the first one decides, whatever follows.
@@ -295,7 +324,46 @@ WRONG_CALLS = [
     ("powers", "root_paper", "InvalidSeating", [], 0), ("powers", "root_paper", "InvalidNumber", [0], 0),
     ("powers", "shows_root_paper", "InvalidSeating", [], 0, None),
     ("powers", "shows_root_paper", "InvalidNumber", [0], 0, None),
+    ("paths", "exchanged", "InvalidSeating", [], 0, 0), ("paths", "exchanged", "InvalidGuest", [0], 1, 0),
+    ("paths", "exchanged", "InvalidGuest", [0], 0, 1),
+    ("paths", "distance", "InvalidSeating", [0], [0, 1]), ("paths", "count_paths", "InvalidSeating", [0], [0, 1]),
+    ("paths", "a_path", "InvalidSeating", [0, 1], [0]), ("paths", "shows_path", "InvalidSeating", [0, 1], [0], None),
+    ("paths", "is_between", "InvalidSeating", [0, 1], [0], [0]), ("paths", "is_between", "InvalidSeating", [0], [0], 0),
+    ("paths", "count_between", "InvalidSeating", [0], [0, 1]), ("paths", "between_at", "InvalidSeating", [0], [0, 1]),
+    ("paths", "a_between", "InvalidSeating", [0], [0, 1], -1), ("paths", "a_between", "InvalidNumber", [0], [0], 1),
+    ("paths", "count_chains", "InvalidSeating", [0], [0, 1], None),
+    ("paths", "count_chains", "InvalidDistances", [0], [0], None),
+    ("paths", "count_at", "InvalidGuests", 0, -1), ("paths", "count_at", "InvalidNumber", 1, 1),
+    ("texts", "read_seating", "InvalidText", "x"), ("texts", "read_coming", "InvalidText", "x"),
+    ("texts", "read_tables", "InvalidText", "x"),
 ]
+
+ERRORS_OF_OBJECTS = {
+    "seating": "InvalidSeating", "other": "InvalidSeating", "third": "InvalidSeating", "coming": "InvalidComing",
+    "names": "InvalidNames", "tables": "InvalidTables", "sizes": "InvalidSizes", "allowed": "InvalidSizes",
+    "later": "InvalidSizes", "group": "InvalidGroup", "groups": "InvalidGroups", "facts": "InvalidFacts",
+    "fact": "InvalidFacts", "rows": "InvalidFacts", "together": "InvalidFacts", "apart": "InvalidFacts",
+    "distances": "InvalidDistances",
+}
+ERRORS_OF_INTEGERS = {
+    "guests": "InvalidGuests", "weight": "InvalidWeight", "guest": "InvalidGuest", "mate": "InvalidGuest",
+    "index": "InvalidIndex",
+}
+
+
+def odd_objects():
+    """Objects that are valid nowhere, those of the package's own classes among them."""
+    hall = Hall(2)
+    hall.open_table()
+    deep = []
+    for _ in range(19):
+        deep = [deep]
+    return [
+        None, True, False, 10 ** 31 - 1, "", "left", (), {}, {"0": [0]}, hall, Hall(), HallError("0"), Refused("full"),
+        deep, (deep,), [hall], [Hall(), 0], [(hall,)], [("left", hall, 0)], [("left", 0, True)], [(hall, 0)], [None],
+        [True], [[True]], [""], [{}], [{"0": hall}], [(0, [1])], [[0, 1], None], ["left", 0, 0], [[]] * 2000,
+        [-1], [10 ** 31 - 1, -1], {"left": 0}, [(1, 1, 1, 1)], [(True, 0)], [(0, None)], [("open",)],
+    ]
 
 
 def function_of(file, name):
@@ -424,6 +492,33 @@ class ErrorsTest(unittest.TestCase):
                 with self.assertRaises(HallError) as caught:
                     function_of(file, name)(**dict(reversed(list(named.items()))))
                 self.assertEqual(type(caught.exception).__name__, error)
+
+    def test_any_object(self):
+        for file, name, arguments in all_calls():
+            for argument in arguments:
+                if argument in ERRORS_OF_OBJECTS and not name.startswith("write_"):
+                    for thing in odd_objects():
+                        self.check_error(file, name, {**arguments, argument: thing}, ERRORS_OF_OBJECTS[argument])
+
+    def test_any_object_is_no_thing(self):
+        for file, name, arguments in all_calls():
+            if "thing" in arguments:
+                for thing in odd_objects():
+                    self.assertIs(function_of(file, name)(**{**arguments, "thing": thing}), False)
+
+    def test_booleans_are_no_integers(self):
+        for file, name, arguments in all_calls():
+            for argument, value in arguments.items():
+                if type(value) is int and argument != "thing":
+                    for wrong in (True, False):
+                        error = ERRORS_OF_INTEGERS.get(argument, "InvalidNumber")
+                        self.check_error(file, name, {**arguments, argument: wrong}, error)
+
+    def check_error(self, file, name, arguments, error):
+        with self.subTest(name=name, arguments=arguments):
+            with self.assertRaises(HallError) as caught:
+                function_of(file, name)(**arguments)
+            self.assertEqual(type(caught.exception).__name__, error)
 
 
 class FolderTest(unittest.TestCase):
