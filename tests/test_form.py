@@ -21,6 +21,20 @@ LIBRARY = {
     "math": {"gcd", "lcm", "isqrt", "comb", "perm", "factorial"},
 }
 
+METHODS = set(
+    "append clear copy count endswith extend find get index insert isalnum isalpha isdigit islower isspace isupper "
+    "items join keys ljust lower lstrip partition pop remove replace reverse rfind rjust rpartition rsplit rstrip "
+    "setdefault split splitlines startswith strip update upper values zfill bit_length".split()
+)
+NO_NAMES = set(
+    "register mro elements open input law version_info with_traceback add_note eval exec compile exit globals locals "
+    "vars dir help id os sys gc license quit".split()
+)
+NO_WORDS = set(
+    "type typing typing_extensions enum Enum IntEnum StrEnum Flag IntFlag Generic Protocol ABC ABCMeta namedtuple "
+    "NamedTuple TypedDict TYPE_CHECKING abstractmethod".split()
+)
+
 
 def tree_of(path):
     return ast.parse(path.read_text())
@@ -112,6 +126,49 @@ class FormTest(unittest.TestCase):
                 if isinstance(node, ast.FunctionDef):
                     with self.subTest(path=path.name, name=node.name):
                         self.assertEqual(local_names(node) & (taken | BUILTINS), set())
+
+    def test_methods(self):
+        own = {node.name for path in FILES for top in tree_of(path).body if isinstance(top, ast.ClassDef)
+               for node in top.body if isinstance(node, ast.FunctionDef)}
+        self.assertEqual(own & METHODS, set())
+        for path in FILES:
+            for node in ast.walk(tree_of(path)):
+                if isinstance(node, ast.Call) and isinstance(node.func, ast.Attribute):
+                    with self.subTest(path=path.name, method=node.func.attr):
+                        self.assertIn(node.func.attr, METHODS | own)
+
+    def test_names_and_words_that_are_not_used(self):
+        for path in FILES:
+            for node in ast.walk(tree_of(path)):
+                names = [getattr(node, part, None) for part in ("id", "name", "arg", "attr")]
+                self.assertEqual({name for name in names if isinstance(name, str)} & NO_NAMES, set())
+                for name in names:
+                    self.assertFalse(isinstance(name, str) and name.startswith("_wall"))
+                if isinstance(node, ast.Name):
+                    self.assertNotIn(node.id, NO_WORDS - {"type"})
+                if isinstance(node, ast.Constant) and isinstance(node.value, str):
+                    self.assertEqual(set(node.value.split()) & (NO_WORDS - {"type"}), set())
+
+    def test_kinds_are_asked_in_comparisons_alone(self):
+        for path in FILES:
+            tree = tree_of(path)
+            asked = [node.left for node in ast.walk(tree) if isinstance(node, ast.Compare)]
+            asked += [node.value for node in ast.walk(tree)
+                      if isinstance(node, ast.Attribute) and node.attr == "__name__"]
+            for node in ast.walk(tree):
+                if isinstance(node, ast.Call) and isinstance(node.func, ast.Name) and node.func.id == "type":
+                    self.assertIn(node, asked)
+
+    def test_exponents_and_errors(self):
+        own = {node.name for node in tree_of(PACKAGE / "errors.py").body if isinstance(node, ast.ClassDef)}
+        for path in FILES:
+            for node in ast.walk(tree_of(path)):
+                if isinstance(node, ast.BinOp) and isinstance(node.op, ast.Pow):
+                    self.assertIn(ast.literal_eval(node.right), range(65))
+                if isinstance(node, ast.ExceptHandler):
+                    self.assertIn(node.type.id, own)
+                if isinstance(node, ast.Raise):
+                    self.assertIn(node.exc.func.id, own)
 
     def test_no_string_has_the_sign_of_formats(self):
         for path in FILES:
